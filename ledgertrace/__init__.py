@@ -1,0 +1,1 @@
+"""Ledgertrace: who made what from what."""

@@ -1,0 +1,145 @@
+"""[1] and the interface: what holds of all functions."""
+
+import copy
+import inspect
+import unittest
+
+from making import Case, as_lists, has_list
+from ledgertrace import chances, errors, measures, polys
+from ledgertrace.errors import TraceError
+
+P = (((), 2), ((("a1", 1), ("b1", 2)), 1), ((("a10", 1),), 3))
+Q = (((("a1", 1),), 1), ((("c1", 1),), 4))
+SEEN = (("", ("ann", "bob")), ("a1", ("ann",)), ("a10", ()), ("b1", ("ann", "bob")))
+
+# Of each function: its arguments' names, and calls that answer.
+CALLS = (
+    (polys.of_token, ("token",), (("a1",),)),
+    (polys.plus, ("p", "q"), ((P, Q), (P, ()), ((), Q))),
+    (polys.times, ("p", "q"), ((P, Q), (P, ()), (P, (((), 1),)), ((((), 1),), P))),
+    (polys.tokens_of, ("p",), ((P,), ((),))),
+    (polys.degree, ("p",), ((P,), ((),))),
+    (polys.replaced, ("p", "pairs"), (
+        (P, ()), (P, (("a1", Q), ("a10", ()))), (P, (("b1", Q), ("z1", P))), (P, (("a10", (((), 1),)),)))),
+    (polys.poly_text, ("p",), ((P,), ((),))),
+    (polys.read_poly, ("text",), (("2 + a1*b1^2 + 3*a10",), ("0",))),
+    (measures.valued, ("p", "measure", "given"), (
+        (P, "count", (("a1", 2), ("b1", 3), ("a10", 0))),
+        (P, "cost", (("a1", 2), ("b1", None), ("a10", 0))),
+        (P, "trust", (("a1", 2), ("b1", 100), ("a10", 0))),
+        (P, "there", (("a1", True), ("b1", False), ("a10", True))),
+        (P, "seen", SEEN), (P[1:], "seen", SEEN))),
+    (measures.measured_plus, ("measure", "a", "b"), (
+        ("count", 1, 2), ("cost", None, 2), ("trust", 1, 2), ("there", True, False), ("seen", ("ann",), ("bob",)))),
+    (measures.measured_times, ("measure", "a", "b"), (
+        ("count", 1, 2), ("cost", None, 2), ("trust", 1, 2), ("there", True, False), ("seen", ("ann",), ("ann",)))),
+    (measures.measured_zero, ("measure", "persons"), (("count", ()), ("seen", ("ann", "bob")))),
+    (measures.measured_one, ("measure", "persons"), (("count", ()), ("seen", ("ann", "bob")))),
+    (chances.chance, ("p", "given"), ((P[1:], (("a1", (1, 2)), ("b1", (1, 3)), ("a10", (0, 1)))),)),
+)
+
+# Calls that raise.
+WRONG_CALLS = (
+    (polys.plus, ((((), 10 ** 100 - 1),), (((), 1),))),
+    (polys.times, ((((), 10 ** 50),), (((), 10 ** 50),))),
+    (polys.replaced, (P, (("a1", tuple(((("b1", at),), 1) for at in range(1, 402))),))),
+    (polys.read_poly, ((("a1", ("b1",)),),)),
+    (measures.valued, (P, "count", (("a1", 2), ("b1", 3)))),
+    (measures.valued, (P, "seen", (("a1", ("ann",)),))),
+    (chances.chance, (P, (("a1", (1, 2)),))),
+)
+
+
+class AllFunctions(Case):
+
+    def test_names_of_arguments_and_places(self):
+        for call, names, _ in CALLS:
+            self.assertEqual(tuple(inspect.signature(call).parameters), names, call)
+            module = inspect.getmodule(call)
+            self.assertEqual(call.__module__, module.__name__)
+            self.assertIs(getattr(module, call.__name__), call)
+
+    def test_each_function_of_the_interface_is_called_here(self):
+        listed = {
+            polys: ("of_token", "plus", "times", "tokens_of", "degree", "replaced", "poly_text", "read_poly"),
+            measures: ("valued", "measured_plus", "measured_times", "measured_zero", "measured_one"),
+            chances: ("chance",),
+        }
+        for module, names in listed.items():
+            called = {call.__name__ for call, _, _ in CALLS if call.__module__ == module.__name__}
+            self.assertEqual(called, set(names))
+
+    def test_names_of_arguments_of_the_errors(self):
+        listed = {"NothingThere": ["name"], "TooMany": ["word"], "Unlike": ["name"]}
+        for made in TraceError.__subclasses__():
+            self.assertEqual(list(inspect.signature(made).parameters), listed.get(made.__name__, ["at"]))
+            self.assertEqual(made.__module__, errors.__name__)
+
+    def test_lists_are_taken_for_tuples_and_tuples_come_back(self):
+        for call, _, many in CALLS:
+            for arguments in many:
+                told = call(*arguments)
+                by_lists = call(*as_lists(arguments))
+                self.assertEqual(by_lists, told, (call, arguments))
+                self.assertIs(type(by_lists), type(told))
+                self.assertFalse(has_list(told) or has_list(by_lists), (call, arguments))
+
+    def test_arguments_by_name(self):
+        for call, names, many in CALLS:
+            for arguments in many:
+                told = call(*arguments)
+                self.assertEqual(call(**dict(zip(names, arguments))), told)
+                self.assertEqual(call(**dict(reversed(list(zip(names, arguments))))), told)
+                self.assertEqual(call(arguments[0], **dict(zip(names[1:], arguments[1:]))), told)
+
+    def test_nothing_that_is_handed_in_is_changed(self):
+        for call, _, many in CALLS:
+            for arguments in many:
+                handed = as_lists(arguments)
+                kept = copy.deepcopy(handed)
+                call(*handed)
+                self.assertEqual(handed, kept, call)
+
+    def test_a_call_that_raises_changes_nothing_either(self):
+        for call, arguments in WRONG_CALLS:
+            told = []
+            for form in (arguments, as_lists(arguments), arguments):
+                kept = copy.deepcopy(form)
+                with self.assertRaises(TraceError) as caught:
+                    call(*form)
+                self.assertEqual(form, kept)
+                told.append((type(caught.exception), vars(caught.exception)))
+            self.assertEqual(told, [told[0]] * 3)
+
+    def test_later_changes_of_what_was_handed_in_have_no_effect(self):
+        p, pairs = as_lists(P), as_lists((("b1", Q),))
+        results = [polys.plus(p, []), polys.times([[[], 1]], p), polys.replaced(p, []), polys.replaced(p, pairs)]
+        kept = copy.deepcopy(results)
+        persons = ["ann", "bob"]
+        everyone = measures.measured_one("seen", persons)
+        p[1][0][0][1] = 99
+        p.clear()
+        pairs[0][1].clear()
+        persons.clear()
+        self.assertEqual(results, kept)
+        self.assertEqual(everyone, ("ann", "bob"))
+
+    def test_equal_calls_return_equal_results(self):
+        for call, _, many in CALLS:
+            first = [call(*arguments) for arguments in many]
+            self.assertEqual([call(*arguments) for arguments in reversed(many)], first[::-1])
+
+    def test_values_that_are_handed_out(self):
+        self.assertEqual(polys.ZERO, ())
+        self.assertEqual(polys.ONE, (((), 1),))
+        self.assertEqual(measures.MEASURES, ("count", "cost", "trust", "there", "seen"))
+
+    def test_no_deep_calls(self):
+        wide = ((tuple((f"a{at}", 1) for at in sorted(range(1, 3000), key=str)), 1),)
+        self.assertEqual(polys.degree(polys.times(wide, wide)), 5998)
+        self.assertEqual(polys.read_poly(polys.poly_text(wide)), wide)
+        self.assertEqual(measures.valued(wide, "count", [(token, 1) for token in polys.tokens_of(wide)]), 1)
+
+
+if __name__ == "__main__":
+    unittest.main()
