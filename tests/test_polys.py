@@ -245,6 +245,12 @@ class Replacing(Case):
         self.raises(TooMany, "terms", replaced, p, tuple((t, sum_of(["b1", "b2"])) for t in tokens))
         self.assertEqual(replaced(p, tuple((t, (B,)) for t in tokens)), power("b1", 200000, GREATEST))
 
+    def test_far_too_many_terms_are_told_soon(self):
+        tokens = named("a", 200)
+        pairs = [(token, sum_of(["b" + token[1:], "c" + token[1:]])) for token in tokens]
+        self.raises(TooMany, "terms", replaced, product_of(tokens), pairs)
+        self.raises(TooMany, "terms", replaced, power("a1", 399), (("a1", sum_of(named("b", 400))),))
+
     def test_all_powers_of_a_sum(self):
         p = powers("a1", 320)
         made = replaced(p, (("a1", (((), 1), B)),))
