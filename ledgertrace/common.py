@@ -1,7 +1,8 @@
 """What several modules share: limits, and arithmetic that stops at a bound."""
 
-from ledgertrace.errors import NothingThere
+from ledgertrace.errors import NothingThere, TooMany
 
+MOST_ROWS = 400
 MOST_TERMS = 400
 MOST_FIGURES = 100
 # The least number that has more than MOST_FIGURES figures.
@@ -29,3 +30,9 @@ def need_all(tokens, values):
     for token in tokens:
         if token not in values:
             raise NothingThere(token)
+
+
+def check_rows(rows):
+    """TooMany for more rows than a table may have."""
+    if len(rows) > MOST_ROWS:
+        raise TooMany("rows")

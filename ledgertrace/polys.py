@@ -1,7 +1,9 @@
 """Polynomials over tokens, as tuples: sums and products, replacing, and their text."""
 
+from ledgertrace.cells import is_token, tells_number
 from ledgertrace.common import BEYOND_FIGURES, MOST_FIGURES, MOST_TERMS, capped_power
 from ledgertrace.errors import BadValue, TooMany
+from ledgertrace.terms import check_terms, frozen, poly_of, product_terms, put
 
 ZERO = ()
 ONE = (((), 1),)
@@ -15,14 +17,14 @@ def of_token(token):
 def plus(p, q):
     """The sum of two polynomials."""
     found = {}
-    for monomial, coefficient in _frozen(p) + _frozen(q):
-        _put(found, monomial, coefficient)
-    return _poly(found)
+    for monomial, coefficient in frozen(p) + frozen(q):
+        put(found, monomial, coefficient)
+    return poly_of(found)
 
 
 def times(p, q):
     """The product of two polynomials."""
-    return _poly(_product(_frozen(p), _frozen(q)))
+    return poly_of(product_terms(frozen(p), frozen(q)))
 
 
 def tokens_of(p):
@@ -35,71 +37,18 @@ def degree(p):
     return max([sum([pair[1] for pair in term[0]]) for term in p], default=0)
 
 
-def _frozen(p):
-    """The polynomial p, which may consist of lists, as tuples."""
-    return tuple([
-        (tuple([(token, exponent) for token, exponent in monomial]), coefficient)
-        for monomial, coefficient in p
-    ])
-
-
-def _put(found, monomial, coefficient):
-    """Add a term to the dict found, of coefficients by monomial."""
-    # Beyond the limit the very number tells nothing more: stopping there keeps
-    # numbers small that would have very many figures. (Exponents are not stopped:
-    # unlike monomials have to stay unlike, as terms are looked at first.)
-    found[monomial] = min(found.get(monomial, 0) + coefficient, BEYOND_FIGURES)
-
-
-def _product(terms, others):
-    """The product of two sequences of terms, as coefficients by monomial."""
-    found = {}
-    for monomial, coefficient in terms:
-        for another, factor in others:
-            _put(found, _joined(monomial, another), coefficient * factor)
-        # No coefficient is below 1, so no later term takes one away.
-        _check_terms(found)
-    return found
-
-
-def _joined(monomial, another):
-    """The product of two monomials."""
-    if not monomial:
-        return another
-    if not another:
-        return monomial
-    exponents = dict(monomial)
-    for token, exponent in another:
-        exponents[token] = exponents.get(token, 0) + exponent
-    return tuple(sorted(exponents.items()))
-
-
-def _check_terms(found):
-    if len(found) > MOST_TERMS:
-        raise TooMany("terms")
-
-
-def _poly(found):
-    """The polynomial of these coefficients by monomial, if it is within the limits."""
-    _check_terms(found)
-    for monomial, coefficient in found.items():
-        if coefficient >= BEYOND_FIGURES or any([pair[1] >= BEYOND_FIGURES for pair in monomial]):
-            raise TooMany("figures")
-    return tuple(sorted(found.items()))
-
-
 def replaced(p, pairs):
     """The polynomial p with each token of the pairs (token, polynomial) replaced, all at once."""
-    news = {token: _frozen(new) for token, new in pairs}
+    news = {token: frozen(new) for token, new in pairs}
     powers = {new: {} for new in news.values()}
     found = {}
-    for monomial, coefficient in _frozen(p):
+    for monomial, coefficient in frozen(p):
         # What becomes ZERO is left out ahead of all powers: the limits are those of the result.
         if all([news.get(token, ONE) for token, _ in monomial]):
             for another, factor in _replaced_term(monomial, coefficient, news, powers):
-                _put(found, another, factor)
-            _check_terms(found)
-    return _poly(found)
+                put(found, another, factor)
+            check_terms(found)
+    return poly_of(found)
 
 
 def _replaced_term(monomial, coefficient, news, powers):
@@ -109,7 +58,7 @@ def _replaced_term(monomial, coefficient, news, powers):
     for token, exponent in monomial:
         if token in news:
             new = news[token]
-            terms = list(_product(terms, _raised(new, exponent, powers[new])).items())
+            terms = list(product_terms(terms, _raised(new, exponent, powers[new])).items())
     return terms
 
 
@@ -129,7 +78,7 @@ def _raised(terms, exponent, known):
         start = max([each for each in known if each < exponent <= 2 * each], default=exponent // 2)
         one = _raised(terms, start, known)
         other = _raised(terms, exponent - start, known)
-        known[exponent] = list(_product(one, other).items())
+        known[exponent] = list(product_terms(one, other).items())
     return known[exponent]
 
 
@@ -179,14 +128,14 @@ def _rises(pairs):
 
 def _read_term(word):
     factors = word.split("*")
-    if not _tells_number(factors[0]):
+    if not tells_number(factors[0]):
         return tuple([_read_power(factor) for factor in factors]), 1
     return tuple([_read_power(factor) for factor in factors[1:]]), _read_number(factors[0])
 
 
 def _read_power(word):
     token, sign, figures = word.partition("^")
-    if not _is_token(token):
+    if not is_token(token):
         raise BadValue(0)
     if not sign:
         return token, 1
@@ -195,15 +144,6 @@ def _read_power(word):
 
 def _read_number(word):
     # The length is looked at first: Python refuses to read very long numbers.
-    if len(word) > MOST_FIGURES or not _tells_number(word):
+    if len(word) > MOST_FIGURES or not tells_number(word):
         raise BadValue(0)
     return int(word)
-
-
-def _tells_number(word):
-    """Whether word is the figures of a number from 1 on."""
-    return word.isascii() and word.isdigit() and word[0] != "0"
-
-
-def _is_token(word):
-    return "a" <= word[:1] <= "z" and len(word) <= 5 and _tells_number(word[1:])

@@ -5,12 +5,20 @@ import inspect
 import unittest
 
 from making import Case, as_lists, has_list
-from ledgertrace import chances, errors, measures, polys
+from ledgertrace import chances, errors, measures, polys, programs, running, tables, why
 from ledgertrace.errors import TraceError
 
 P = (((), 2), ((("a1", 1), ("b1", 2)), 1), ((("a10", 1),), 3))
 Q = (((("a1", 1),), 1), ((("c1", 1),), 4))
 SEEN = (("", ("ann", "bob")), ("a1", ("ann",)), ("a10", ()), ("b1", ("ann", "bob")))
+
+TABLE = ((("ann", 3), Q), (("ann", 4), P), (("bob", 4), Q))
+TABLES = (("sold", 2, TABLE), ("paid", 1, (((3,), P), (("ann",), Q))))
+PROGRAM = ("pick", ("join", ("keep", ("take", "sold"), (("col", 0), "!", ("val", "bob"))), ("take", "paid"), ((1, 0),)), (0, 1))
+WIDE = ("make", ("both", ("take", "sold"), ("take", "sold")), ("sum", 1, 1))
+SEEN_TABLES = (("sold", 2, ((("ann", 3), ("eve", "joe")), (("bob", 4), ("joe",)))), ("paid", 1, (((3,), ("eve",)),)))
+COUNTED_TABLES = (("sold", 2, ((("ann", 3), 2), (("bob", 4), 5))), ("paid", 1, (((3,), 7),)))
+SETS = (((("a1", 1), ("b1", 2)), 1), ((("a10", 1), ("b1", 1)), 3))
 
 # Of each function: its arguments' names, and calls that answer.
 CALLS = (
@@ -36,6 +44,24 @@ CALLS = (
     (measures.measured_zero, ("measure", "persons"), (("count", ()), ("seen", ("ann", "bob")))),
     (measures.measured_one, ("measure", "persons"), (("count", ()), ("seen", ("ann", "bob")))),
     (chances.chance, ("p", "given"), ((P[1:], (("a1", (1, 2)), ("b1", (1, 3)), ("a10", (0, 1)))),)),
+    (tables.tagged, ("rows", "tokens"), (((("ann", 3), (3, "ann"), ("ann", 3)), ("a1", "b1", "a1")), ((), ()))),
+    (tables.rows_of, ("table",), ((TABLE,), ((),))),
+    (tables.poly_at, ("table", "row"), ((TABLE, ("ann", 4)), (TABLE, ("ann", 5)))),
+    (tables.table_valued, ("table", "measure", "given"), (
+        (TABLE, "count", (("a1", 2), ("b1", 3), ("a10", 0), ("c1", 1))),
+        (TABLE, "seen", SEEN + (("c1", ("ann", "bob")),)))),
+    (programs.width_of, ("program", "widths"), (
+        (PROGRAM, (("sold", 2), ("paid", 1))), (WIDE, (("sold", 2),)))),
+    (programs.program_text, ("program",), ((PROGRAM,), (WIDE,))),
+    (programs.read_program, ("text",), (("pick(join(take t, take u, 0=1 1=0), 0 0)",), ("keep(take t, #0 < -5)",))),
+    (running.run, ("program", "tables"), ((PROGRAM, TABLES), (WIDE, TABLES))),
+    (running.run_measured, ("program", "tables", "measure", "persons"), (
+        (PROGRAM, SEEN_TABLES, "seen", ("eve", "joe")), (WIDE, SEEN_TABLES, "seen", ("eve", "joe")),
+        (PROGRAM, COUNTED_TABLES, "count", ()), (WIDE, COUNTED_TABLES, "cost", ()))),
+    (why.witnesses, ("p",), ((P,), (SETS,), ((),))),
+    (why.there_with, ("p", "tokens"), ((SETS, ("b1", "a1")), (SETS, ("b1", "z1")))),
+    (why.needed, ("p",), ((P,), (SETS,), ((),))),
+    (why.breakers, ("p",), ((P,), (SETS,), ((),))),
 )
 
 # Calls that raise.
@@ -47,6 +73,17 @@ WRONG_CALLS = (
     (measures.valued, (P, "count", (("a1", 2), ("b1", 3)))),
     (measures.valued, (P, "seen", (("a1", ("ann",)),))),
     (chances.chance, (P, (("a1", (1, 2)),))),
+    (tables.tagged, (((1,), ("A",)), ("a1", "a2"))),
+    (tables.tagged, (((1,), (2,)), ("a1", ("a2",)))),
+    (tables.tagged, (tuple((at,) for at in range(401)), ("a1",) * 401)),
+    (tables.table_valued, (TABLE, "count", (("a1", 2),))),
+    (programs.width_of, (PROGRAM, (("sold", 2),))),
+    (programs.read_program, (("take", "t"),)),
+    (running.run, (PROGRAM, TABLES[:1])),
+    (running.run, (("both", PROGRAM, ("take", "more")), TABLES + (
+        ("more", 2, tuple(((1, at), Q) for at in range(401))),))),
+    (running.run_measured, (("take", "more"), (("more", 1, (((1,), 10 ** 4000),)),), "count", ())),
+    (why.breakers, (((tuple((f"a{at}", 1) for at in range(1000, 1401)), 1),),)),
 )
 
 
@@ -64,6 +101,10 @@ class AllFunctions(Case):
             polys: ("of_token", "plus", "times", "tokens_of", "degree", "replaced", "poly_text", "read_poly"),
             measures: ("valued", "measured_plus", "measured_times", "measured_zero", "measured_one"),
             chances: ("chance",),
+            tables: ("tagged", "rows_of", "poly_at", "table_valued"),
+            programs: ("width_of", "program_text", "read_program"),
+            running: ("run", "run_measured"),
+            why: ("witnesses", "there_with", "needed", "breakers"),
         }
         for module, names in listed.items():
             called = {call.__name__ for call, _, _ in CALLS if call.__module__ == module.__name__}
@@ -113,13 +154,22 @@ class AllFunctions(Case):
 
     def test_later_changes_of_what_was_handed_in_have_no_effect(self):
         p, pairs = as_lists(P), as_lists((("b1", Q),))
+        rows, table, given = as_lists((("ann", 3),)), as_lists(TABLE), as_lists(SEEN_TABLES)
         results = [polys.plus(p, []), polys.times([[[], 1]], p), polys.replaced(p, []), polys.replaced(p, pairs)]
+        results += [tables.tagged(rows, ["a1"]), tables.rows_of(table), tables.poly_at(table, ["ann", 4])]
+        results += [running.run(["take", "t"], [["t", 2, table]])]
+        results += [running.run_measured(["take", "sold"], given, "seen", [])]
         kept = copy.deepcopy(results)
         persons = ["ann", "bob"]
         everyone = measures.measured_one("seen", persons)
         p[1][0][0][1] = 99
         p.clear()
         pairs[0][1].clear()
+        rows[0].append(4)
+        for row, p in table:
+            row.clear()
+            p[0][0].clear()
+        given[0][2][0][1].clear()
         persons.clear()
         self.assertEqual(results, kept)
         self.assertEqual(everyone, ("ann", "bob"))
