@@ -5,7 +5,8 @@ import inspect
 import unittest
 
 from making import Case, as_lists, has_list
-from ledgertrace import chances, errors, measures, polys, programs, running, tables, why
+from ledgertrace import (
+    blame, chances, errors, measures, polys, programs, running, secrets_flow, tables, whatif, whynot, why)
 from ledgertrace.errors import TraceError
 
 P = (((), 2), ((("a1", 1), ("b1", 2)), 1), ((("a10", 1),), 3))
@@ -14,10 +15,14 @@ SEEN = (("", ("ann", "bob")), ("a1", ("ann",)), ("a10", ()), ("b1", ("ann", "bob
 
 TABLE = ((("ann", 3), Q), (("ann", 4), P), (("bob", 4), Q))
 TABLES = (("sold", 2, TABLE), ("paid", 1, (((3,), P), (("ann",), Q))))
-PROGRAM = ("pick", ("join", ("keep", ("take", "sold"), (("col", 0), "!", ("val", "bob"))), ("take", "paid"), ((1, 0),)), (0, 1))
+KEPT = ("keep", ("take", "sold"), (("col", 0), "!", ("val", "bob")))
+PROGRAM = ("pick", ("join", KEPT, ("take", "paid"), ((1, 0),)), (0, 1))
 WIDE = ("make", ("both", ("take", "sold"), ("take", "sold")), ("sum", 1, 1))
 SEEN_TABLES = (("sold", 2, ((("ann", 3), ("eve", "joe")), (("bob", 4), ("joe",)))), ("paid", 1, (((3,), ("eve",)),)))
 COUNTED_TABLES = (("sold", 2, ((("ann", 3), 2), (("bob", 4), 5))), ("paid", 1, (((3,), 7),)))
+CHANGES = (("gone", "a10"), ("new", "sold", ("zoe", 3), "d1"), ("new", "sold", ("ann", 3), "d2"), ("gone", "d2"))
+CANDIDATES = (("new", "sold", ("zoe", 3), "d1"), ("new", "sold", ("zoe", 3), "d2"), ("new", "paid", (7,), "d3"))
+GRANTS = (("a1", ("ann", "bob")), ("b1", ("bob",)), ("c1", ()))
 SETS = (((("a1", 1), ("b1", 2)), 1), ((("a10", 1), ("b1", 1)), 3))
 
 # Of each function: its arguments' names, and calls that answer.
@@ -62,7 +67,24 @@ CALLS = (
     (why.there_with, ("p", "tokens"), ((SETS, ("b1", "a1")), (SETS, ("b1", "z1")))),
     (why.needed, ("p",), ((P,), (SETS,), ((),))),
     (why.breakers, ("p",), ((P,), (SETS,), ((),))),
+    (blame.contingency, ("p", "token"), ((SETS, "a1"), (SETS, "z1"), (SETS, "b1"))),
+    (blame.blame, ("p", "token"), ((SETS, "a1"), (SETS, "z1"), (P, "b1"))),
+    (blame.blames, ("p",), ((P,), (SETS,), ((),))),
+    (whatif.changed_tables, ("tables", "changes"), ((TABLES, CHANGES), (TABLES, ()), ((), ()))),
+    (whatif.whatif, ("program", "tables", "changes"), ((PROGRAM, TABLES, CHANGES), (WIDE, TABLES, CHANGES))),
+    (whatif.moved, ("program", "tables", "changes"), ((PROGRAM, TABLES, CHANGES), (WIDE, TABLES, CHANGES))),
+    (whynot.additions, ("program", "tables", "candidates", "row"), (
+        (PROGRAM, TABLES, CANDIDATES, ("zoe", 3)), (PROGRAM, TABLES, CANDIDATES, ("ann", 3)),
+        (PROGRAM, TABLES, CANDIDATES, ("kim", 3)))),
+    (whynot.nearest, ("program", "tables", "candidates", "row", "prices"), (
+        (PROGRAM, TABLES, CANDIDATES, ("zoe", 3), (("d3", 1), ("d1", 5), ("d2", 4))),
+        (PROGRAM, TABLES, CANDIDATES, ("kim", 3), (("d3", 1), ("d1", 5), ("d2", 4))))),
+    (secrets_flow.seers, ("p", "grants", "persons"), ((Q, GRANTS, ("ann", "bob", "eve")), (P, GRANTS, ("eve",)))),
+    (secrets_flow.seen_table, ("table", "grants", "person"), ((TABLE, GRANTS, "ann"), (TABLE, GRANTS, "eve"))),
+    (secrets_flow.leaks, ("table", "grants", "person"), ((TABLE, GRANTS, "ann"), (TABLE, GRANTS, "eve"))),
 )
+
+MANY_SETS = ((tuple((f"a{at}", 1) for at in range(1000, 1401)), 1),)
 
 # Calls that raise.
 WRONG_CALLS = (
@@ -83,7 +105,17 @@ WRONG_CALLS = (
     (running.run, (("both", PROGRAM, ("take", "more")), TABLES + (
         ("more", 2, tuple(((1, at), Q) for at in range(401))),))),
     (running.run_measured, (("take", "more"), (("more", 1, (((1,), 10 ** 4000),)),), "count", ())),
-    (why.breakers, (((tuple((f"a{at}", 1) for at in range(1000, 1401)), 1),),)),
+    (why.breakers, (MANY_SETS,)),
+    (blame.contingency, (MANY_SETS, "a1000")),
+    (blame.blame, (MANY_SETS, "z1")),
+    (blame.blames, (MANY_SETS,)),
+    (whatif.changed_tables, (TABLES, CHANGES + (("gone", "a10"),))),
+    (whatif.changed_tables, (TABLES, CHANGES + (("new", "sold", ("ann",), "d9"),))),
+    (whatif.whatif, (PROGRAM, TABLES, CHANGES + (("gone", "d2"),))),
+    (whatif.moved, (PROGRAM, TABLES, CHANGES + (("new", "sold", ("ann", 3), "d2"),))),
+    (whynot.additions, (PROGRAM, TABLES, CANDIDATES + (("gone", "a1"),), ("zoe", 3))),
+    (whynot.additions, (PROGRAM, TABLES, CANDIDATES, ("zoe", 3, 3))),
+    (whynot.nearest, (PROGRAM, TABLES, CANDIDATES, ("zoe", 3), (("d1", 1), ("d2", 2), ("d2", 3)))),
 )
 
 
@@ -105,6 +137,10 @@ class AllFunctions(Case):
             programs: ("width_of", "program_text", "read_program"),
             running: ("run", "run_measured"),
             why: ("witnesses", "there_with", "needed", "breakers"),
+            blame: ("contingency", "blame", "blames"),
+            whatif: ("changed_tables", "whatif", "moved"),
+            whynot: ("additions", "nearest"),
+            secrets_flow: ("seers", "seen_table", "leaks"),
         }
         for module, names in listed.items():
             called = {call.__name__ for call, _, _ in CALLS if call.__module__ == module.__name__}
@@ -159,6 +195,11 @@ class AllFunctions(Case):
         results += [tables.tagged(rows, ["a1"]), tables.rows_of(table), tables.poly_at(table, ["ann", 4])]
         results += [running.run(["take", "t"], [["t", 2, table]])]
         results += [running.run_measured(["take", "sold"], given, "seen", [])]
+        changes, candidates, grants = as_lists(CHANGES), as_lists(CANDIDATES), as_lists(GRANTS)
+        results += [whatif.changed_tables([["sold", 2, table]], changes)]
+        results += [whatif.moved(["take", "sold"], [["sold", 2, table]], changes)]
+        results += [whynot.additions(["take", "sold"], as_lists(TABLES), candidates, ["zoe", 3])]
+        results += [secrets_flow.leaks(table, grants, "ann"), secrets_flow.seen_table(table, grants, "bob")]
         kept = copy.deepcopy(results)
         persons = ["ann", "bob"]
         everyone = measures.measured_one("seen", persons)
@@ -170,6 +211,9 @@ class AllFunctions(Case):
             row.clear()
             p[0][0].clear()
         given[0][2][0][1].clear()
+        for sequence in (changes, candidates, grants):
+            sequence[0].clear()
+            sequence.clear()
         persons.clear()
         self.assertEqual(results, kept)
         self.assertEqual(everyone, ("ann", "bob"))

@@ -186,8 +186,9 @@ class Widths(Case):
         self.raises(BadProgram, 0, width_of, ("both", ("both", half, half), T), WIDTHS)
 
     def test_programs_that_are_far_too_deep(self):
-        for around in (lambda part: ("pick", part, (0,)), lambda part: ("both", T, part), lambda part: ("both", part, part),
-                       lambda part: (part,), lambda part: [part], lambda part: ("take", part)):
+        for around in (lambda part: ("pick", part, (0,)), lambda part: ("both", T, part),
+                       lambda part: ("both", part, part), lambda part: (part,), lambda part: [part],
+                       lambda part: ("take", part)):
             self.raises(BadProgram, 0, width_of, deep(around, T), WIDTHS)
         nothing = deep(lambda part: (part,), ())
         for wrong in (("take", nothing), ("pick", T, nothing), ("keep", T, nothing), ("join", T, U, nothing),

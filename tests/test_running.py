@@ -4,7 +4,8 @@ import random
 import unittest
 
 from making import (
-    GREATEST, Case, any_program, any_table, as_lists, deep, named, plain_run, plain_table, powers, simple, sum_of, triple)
+    GREATEST, Case, any_program, any_table, as_lists, deep, named, plain_run, plain_table, powers, simple, sum_of,
+    triple)
 from ledgertrace.errors import BadProgram, TooMany
 from ledgertrace.measures import MEASURES, measured_zero
 from ledgertrace.polys import ONE, of_token, read_poly, times
@@ -128,7 +129,8 @@ class EachKind(Case):
         self.assertEqual(rows(("make", T, ("sum", 0, 0)), table), ((1, 2, 2), (1, "a", 2)))
 
     def test_make_of_what_would_be_no_cell(self):
-        table = ("t", 2, simple(((9999, 0), (9999, 1), (-9999, -1), (-9999, 1), (-9999, 9999), (5000, 4999), (5000, 5000))))
+        table = ("t", 2, simple((
+            (9999, 0), (9999, 1), (-9999, -1), (-9999, 1), (-9999, 9999), (5000, 4999), (5000, 5000))))
         self.assertEqual(rows(("make", T, ("sum", 0, 1)), table), (
             (-9999, 1, -9998), (-9999, 9999, 0), (5000, 4999, 9999), (9999, 0, 9999)))
         self.assertEqual(rows(("make", T, ("less", 0, 1)), table), (
@@ -157,7 +159,8 @@ class WrongPrograms(Case):
 
     def test_no_programs(self):
         table = ("t", 1, simple(((1,),)))
-        for program in (None, (), "take t", ("take",), ("take", "v"), ("pick", T, (1,)), ("both", T, U), ("pick", T, ())):
+        for program in (None, (), "take t", ("take",), ("take", "v"), ("pick", T, (1,)), ("both", T, U),
+                        ("pick", T, ())):
             self.raises(BadProgram, 0, run, program, (table,))
             self.raises(BadProgram, 0, run_measured, program, (("t", 1, (((1,), 4),)),), "count", ())
         self.raises(BadProgram, 0, run, deep(lambda part: ("pick", part, (0,)), T), (table,))
@@ -345,7 +348,8 @@ class Measured(Case):
         self.raises(TooMany, "rows", run_measured, ("join", T, U, ()), (one, other), "seen", self.everyone)
 
     def test_zero_is_left_out_in_each_part(self):
-        one, other = ("t", 1, (((1,), ("ann",)), ((2,), ("ann", "bob")))), ("u", 1, (((1,), ("bob",)), ((2,), ("bob",))))
+        one = ("t", 1, (((1,), ("ann",)), ((2,), ("ann", "bob"))))
+        other = ("u", 1, (((1,), ("bob",)), ((2,), ("bob",))))
         join = ("join", T, U, ((0, 0),))
         self.assertEqual(run_measured(join, (one, other), "seen", self.everyone), (((2, 2), ("bob",)),))
         self.assertEqual(run_measured(("pick", join, (0,)), (one, other), "seen", self.everyone), (((2,), ("bob",)),))

@@ -4,7 +4,8 @@ import random
 import unittest
 
 from making import (
-    ANY_VALUES, BAD_CELLS, BAD_ROWS, BAD_TOKENS, GOOD_CELLS, GOOD_TOKENS, Case, as_lists, cells_order, named, sum_of)
+    ANY_VALUES, BAD_CELLS, BAD_ROWS, BAD_TOKENS, GOOD_CELLS, GOOD_TOKENS, Case, as_lists, cells_order, deep, named,
+    sum_of)
 from ledgertrace.errors import BadValue, NothingThere, TooMany
 from ledgertrace.measures import MEASURES, valued
 from ledgertrace.polys import ONE, ZERO, of_token, plus, poly_text, read_poly
@@ -100,6 +101,13 @@ class WrongTables(Case):
         self.raises(BadValue, 1, tagged, ((1,), (1,)), ("a1",))
         self.raises(BadValue, 1, tagged, (), ("a1",))
         self.raises(BadValue, 1, tagged, ((1,),), ())
+
+    def test_values_that_are_far_too_deep(self):
+        for value in (deep(lambda part: (part,), ()), deep(lambda part: [1, part], [])):
+            self.raises(BadValue, 0, tagged, value, ("a1",))
+            self.raises(BadValue, 0, tagged, ((1,), value), ("a1", "a2"))
+            self.raises(BadValue, 1, tagged, ((1,),), value)
+            self.raises(BadValue, 1, tagged, ((1,),), (value,))
 
     def test_both_wrong(self):
         self.raises(BadValue, 0, tagged, None, None)
