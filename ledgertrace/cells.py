@@ -16,11 +16,19 @@ def is_integer(value):
     return isinstance(value, int) and not isinstance(value, bool)
 
 
+def is_number(value):
+    """Whether value is an integer from 0 on."""
+    return is_integer(value) and value >= 0
+
+
+def is_letters(value):
+    """Whether value is a string of small letters, at least one."""
+    return isinstance(value, str) and value != "" and all(["a" <= sign <= "z" for sign in value])
+
+
 def is_word(value):
     """Whether value is a word of small letters."""
-    if not isinstance(value, str) or not 1 <= len(value) <= MOST_LETTERS:
-        return False
-    return all(["a" <= sign <= "z" for sign in value])
+    return is_letters(value) and len(value) <= MOST_LETTERS
 
 
 def is_cell(value):
@@ -35,6 +43,13 @@ def is_row(value):
     return is_sequence(value) and 1 <= len(value) <= MOST_CELLS and all([is_cell(cell) for cell in value])
 
 
+def are_rows(value):
+    """Whether value is a sequence of rows of one width."""
+    if not is_sequence(value) or not all([is_row(row) for row in value]):
+        return False
+    return all([len(row) == len(value[0]) for row in value])
+
+
 def is_token(value):
     """Whether value is a token: a small letter and figures."""
     if not isinstance(value, str) or len(value) > 1 + MOST_TOKEN_FIGURES:
@@ -45,6 +60,17 @@ def is_token(value):
 def tells_number(word):
     """Whether word is the figures of a number from 1 on."""
     return word.isascii() and word.isdigit() and word[0] != "0"
+
+
+def tells_integer(word, most):
+    """Whether word is the figures of an integer, at most so many of them."""
+    figures = word[1:] if word[:1] == "-" else word
+    return word == "0" or len(figures) <= most and tells_number(figures)
+
+
+def cells_text(row):
+    """The cells of a row with blanks between."""
+    return " ".join([str(cell) for cell in row])
 
 
 def cell_order(cell):

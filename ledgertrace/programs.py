@@ -1,7 +1,7 @@
 """Programs: trees of nodes, the width of what they make, and their text."""
 
 from ledgertrace.cells import (
-    GREATEST_CELL, MOST_CELLS, is_cell, is_integer, is_sequence, is_word, tells_number)
+    GREATEST_CELL, MOST_CELLS, is_cell, is_integer, is_sequence, is_word, tells_integer)
 from ledgertrace.errors import BadProgram
 
 MOST_NODES = 20
@@ -76,20 +76,21 @@ def _is_many(value, many):
     return is_sequence(value) and len(value) == many
 
 
-def _is_column(value, width):
+def is_column(value, width):
+    """Whether value is the number of a column of rows of this width."""
     return is_integer(value) and 0 <= value < width
 
 
 def _are_columns(value, width):
     if not is_sequence(value) or not 1 <= len(value) <= MOST_CELLS:
         return False
-    return all([_is_column(column, width) for column in value])
+    return all([is_column(column, width) for column in value])
 
 
 def _are_pairs(value, width, other):
     """Whether value is a sequence of pairs of a column of one width and one of the other width."""
     return is_sequence(value) and all([
-        _is_many(pair, 2) and _is_column(pair[0], width) and _is_column(pair[1], other)
+        _is_many(pair, 2) and is_column(pair[0], width) and is_column(pair[1], other)
         for pair in value
     ])
 
@@ -103,13 +104,13 @@ def _is_comparison(value, width):
 def _is_side(value, width):
     if not _is_many(value, 2):
         return False
-    return value[0] == "col" and _is_column(value[1], width) or value[0] == "val" and is_cell(value[1])
+    return value[0] == "col" and is_column(value[1], width) or value[0] == "val" and is_cell(value[1])
 
 
 def _is_making(value, width):
     if not _is_many(value, 3) or value[0] not in MADE_CELLS:
         return False
-    return _is_column(value[1], width) and _is_column(value[2], width)
+    return is_column(value[1], width) and is_column(value[2], width)
 
 
 def program_text(program):
@@ -246,8 +247,5 @@ def _read_side(word):
 def _read_cell(word):
     if is_word(word):
         return word
-    if word == "0":
-        return 0
-    figures = word[1:] if word[:1] == "-" else word
-    _need(len(figures) <= len(str(GREATEST_CELL)) and tells_number(figures))
+    _need(tells_integer(word, len(str(GREATEST_CELL))))
     return int(word)

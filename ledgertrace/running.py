@@ -19,6 +19,14 @@ def run_measured(program, tables, measure, persons):
     return _ran(MeasuredValues(measure, persons), program, tables)
 
 
+def node_table(node, parts, tables):
+    """The tagged table that one node makes of those of its parts; a take, of the dict tables."""
+    values = PolyValues()
+    if node[0] == "take":
+        return rising(dict(taken(values, tables[node[1]])))
+    return rising(dict(made_of(values, node, parts)))
+
+
 def _ran(values, program, tables):
     width_of(program, [(name, width) for name, width, _ in tables])
     return rising(dict(_made(values, program, {name: table for name, _, table in tables})))

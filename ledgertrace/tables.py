@@ -1,16 +1,16 @@
 """Tagged tables: rows, each with the polynomial that tells how it came about."""
 
-from ledgertrace.cells import is_row, is_sequence, is_token, rising
+from ledgertrace.cells import are_rows, is_sequence, is_token, rising
 from ledgertrace.common import check_rows
 from ledgertrace.errors import BadValue
 from ledgertrace.measures import valued
 from ledgertrace.polys import ZERO
-from ledgertrace.terms import check_terms, frozen
+from ledgertrace.terms import check_terms, frozen, left_of
 
 
 def tagged(rows, tokens):
     """The table of these rows, each with its token; equal rows become one."""
-    if not _are_rows(rows):
+    if not are_rows(rows):
         raise BadValue(0)
     if not _are_tokens(tokens) or len(tokens) != len(rows):
         raise BadValue(1)
@@ -43,11 +43,10 @@ def table_valued(table, measure, given):
     return tuple([(tuple(row), valued(p, measure, given)) for row, p in table])
 
 
-def _are_rows(value):
-    """Whether value is a sequence of rows of one width."""
-    if not is_sequence(value) or not all([is_row(row) for row in value]):
-        return False
-    return all([len(row) == len(value[0]) for row in value])
+def table_left(table, gone):
+    """The table without the tokens in the dict gone: rows that become ZERO go."""
+    made = [(tuple(row), left_of(frozen(p), gone)) for row, p in table]
+    return tuple([pair for pair in made if pair[1]])
 
 
 def _are_tokens(value):

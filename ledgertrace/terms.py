@@ -56,6 +56,11 @@ def check_figures(terms):
             raise TooMany("figures")
 
 
+def left_of(terms, gone):
+    """The terms that have none of the tokens in the dict gone."""
+    return tuple([term for term in terms if not any([pair[0] in gone for pair in term[0]])])
+
+
 def as_terms(found):
     """The terms of these coefficients by monomial, rising, whether or not they are too many."""
     return tuple(sorted(found.items()))

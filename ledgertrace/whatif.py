@@ -5,7 +5,8 @@ from ledgertrace.common import check_rows
 from ledgertrace.errors import BadValue
 from ledgertrace.polys import ZERO, tokens_of
 from ledgertrace.running import run
-from ledgertrace.terms import as_terms, check_figures, check_terms, frozen
+from ledgertrace.tables import table_left
+from ledgertrace.terms import as_terms, check_figures, check_terms
 
 
 def changed_tables(tables, changes):
@@ -92,13 +93,8 @@ def tables_behind(tables, gone, news):
 
 def _changed(table, gone, news):
     """The table without the tokens that are gone, with these pairs (row, token)."""
-    found = {}
-    for row, p in table:
-        found[tuple(row)] = {
-            monomial: coefficient for monomial, coefficient in frozen(p)
-            if not any([pair[0] in gone for pair in monomial])
-        }
+    found = {row: dict(p) for row, p in table_left(table, gone)}
     for row, token in news:
         if token not in gone:
             found.setdefault(row, {})[((token, 1),)] = 1
-    return rising({row: as_terms(terms) for row, terms in found.items() if terms})
+    return rising({row: as_terms(terms) for row, terms in found.items()})

@@ -1,6 +1,6 @@
 """Why not: which least additions of source rows would bring a row."""
 
-from ledgertrace.cells import is_integer, is_row, is_sequence
+from ledgertrace.cells import is_number, is_row, is_sequence
 from ledgertrace.errors import BadValue
 from ledgertrace.polys import tokens_of
 from ledgertrace.programs import width_of
@@ -43,4 +43,4 @@ def _are_prices(value, tokens):
 def _is_price(value):
     if not is_sequence(value) or len(value) != 2 or not isinstance(value[0], str):
         return False
-    return is_integer(value[1]) and value[1] >= 0
+    return is_number(value[1])

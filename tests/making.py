@@ -2,6 +2,13 @@
 
 import unittest
 
+from ledgertrace.errors import TooMany
+from ledgertrace.ledgers import Ledger
+from ledgertrace.polys import ZERO, replaced
+from ledgertrace.programs import program_text, width_of
+from ledgertrace.running import run
+from ledgertrace.tables import tagged
+
 # The greatest number of 100 figures.
 GREATEST = 10 ** 100 - 1
 
@@ -70,10 +77,10 @@ def product_of(tokens):
     return ((tuple((token, 1) for token in sorted(tokens)), 1),)
 
 
-def as_lists(value):
-    """The same value with a list in place of each tuple."""
-    if isinstance(value, (tuple, list)):
-        return [as_lists(part) for part in value]
+def as_lists(value, depth=50):
+    """The same value with a list in place of each tuple that is not too deep within."""
+    if depth and isinstance(value, (tuple, list)):
+        return [as_lists(part, depth - 1) for part in value]
     return value
 
 
@@ -197,3 +204,95 @@ def simple(rows, letter="a"):
 def triple(name, table):
     """The table, which has rows, with its name and width."""
     return (name, len(table[0][0]), table)
+
+
+MODULUS = 2 ** 61 - 1
+WORDS_NO_LETTERS = ("", "A", "aB", "a1", "1", " ", "a ", " a", "a b", "\u00e4", "\u0430", "a\n", "-", "_", None, 0, 1, -1,
+                    (), [], ("a",), ["a"])
+# What no person and no artifact is called.
+BAD_NAMES = WORDS_NO_LETTERS + ("abcdefghi", "a" * 100)
+
+
+def plain_digest(text):
+    """The digest, in another way than the program's: by powers."""
+    total = 7 * pow(263, len(text), MODULUS)
+    for place, sign in enumerate(reversed(text)):
+        total += (ord(sign) + 1) * pow(263, place, MODULUS)
+    return total % MODULUS
+
+
+def plain_gone(row):
+    return ("", plain_digest("row " + " ".join(str(cell) for cell in row)))
+
+
+def any_rows(source, width, most=4):
+    """Some rows, perhaps equal ones."""
+    cells = (-2, 0, 1, 3, 9999, "a", "ab", "b")
+    return tuple(tuple(source.choice(cells) for _ in range(width)) for _ in range(source.randint(1, most)))
+
+
+def any_calls(source, letter="a", many=14, names=("p", "q", "r")):
+    """Some calls that a ledger lets, and the ledger behind them."""
+    ledger, calls, time = Ledger(letter), [], 0
+    while len(calls) < many:
+        time += source.choice((0, 0, 1, 5))
+        person, name = source.choice(("ann", "bob", "eve")), source.choice(names)
+        stands = [(each, version) for each in ledger.names() for version in range(ledger.versions(each))]
+        left = [token for token, _, _, _ in ledger.tokens_left()]
+        call = ("source", name, any_rows(source, source.randint(1, 3)), person, time)
+        if stands and source.random() < 0.5:
+            chosen = [(alias,) + source.choice(stands) for alias in ("s", "t", "u")[:source.randint(1, 3)]]
+            widths = {alias: ledger.width(each, version) for alias, each, version in chosen}
+            program, _ = any_program(source, widths, source.randint(1, 6))
+            call = ("step", name, program, tuple(chosen), person, time)
+        elif left and source.random() < 0.5:
+            call = ("forget", source.choice(left), person, time)
+        try:
+            getattr(ledger, call[0])(*call[1:])
+        except TooMany:
+            continue
+        calls.append(call)
+    return calls, ledger
+
+
+def told(letter, calls):
+    """The ledger to which these calls were told."""
+    ledger = Ledger(letter)
+    for kind, *arguments in calls:
+        getattr(ledger, kind)(*arguments)
+    return ledger
+
+
+class PlainLedger:
+    """What a ledger tells behind these calls, told without any forgetting until all is made."""
+
+    def __init__(self, letter, calls):
+        self.tables, self.widths, self.makers, self.sources, self.rows, records = {}, {}, {}, {}, {}, []
+        gone = [call[1] for call in calls if call[0] == "forget"]
+        for kind, *call in calls:
+            if kind == "forget":
+                records.append((kind, int(call[0][1:]), call[1], call[2]))
+                continue
+            name, version = call[0], sum(1 for each, _ in self.tables if each == call[0])
+            place = (name, version)
+            self.makers[place] = tuple(call[-2:])
+            if kind == "source":
+                rows, first = tuple(tuple(row) for row in call[1]), len(self.rows) + 1
+                tokens = [f"{letter}{first + at}" for at in range(len(rows))]
+                self.rows.update((token, (name, version, row)) for token, row in zip(tokens, rows))
+                self.tables[place], self.widths[place] = tagged(rows, tokens), len(rows[0])
+                self.sources[place] = {place}
+                kept = tuple(plain_gone(row) if token in gone else row for token, row in zip(tokens, rows))
+                records.append((kind, name, version, len(rows[0]), kept, first) + tuple(call[-2:]))
+                continue
+            inputs = [(alias, self.widths[each, at], self.tables[each, at]) for alias, each, at in call[2]]
+            self.tables[place] = run(call[1], inputs)
+            self.widths[place] = width_of(call[1], [(alias, width) for alias, width, _ in inputs])
+            self.sources[place] = {pair for _, each, at in call[2] for pair in self.sources[each, at]}
+            records.append((kind, name, version, program_text(call[1]), call[2]) + tuple(call[-2:]))
+        pairs = [(token, ZERO) for token in gone]
+        for place, table in self.tables.items():
+            made = ((row, replaced(p, pairs)) for row, p in table)
+            self.tables[place] = tuple(pair for pair in made if pair[1])
+        self.left = tuple((token,) + self.rows[token] for token in self.rows if token not in gone)
+        self.records = tuple(records)

@@ -6,7 +6,8 @@ import unittest
 
 from making import Case, as_lists, has_list
 from ledgertrace import (
-    blame, chances, errors, measures, polys, programs, running, secrets_flow, tables, whatif, whynot, why)
+    blame, chances, checking, errors, folds, ledgers, measures, polys, programs, running, secrets_flow, tables, traces,
+    whatif, whynot, why)
 from ledgertrace.errors import TraceError
 
 P = (((), 2), ((("a1", 1), ("b1", 2)), 1), ((("a10", 1),), 3))
@@ -24,6 +25,7 @@ CHANGES = (("gone", "a10"), ("new", "sold", ("zoe", 3), "d1"), ("new", "sold", (
 CANDIDATES = (("new", "sold", ("zoe", 3), "d1"), ("new", "sold", ("zoe", 3), "d2"), ("new", "paid", (7,), "d3"))
 GRANTS = (("a1", ("ann", "bob")), ("b1", ("bob",)), ("c1", ()))
 SETS = (((("a1", 1), ("b1", 2)), 1), ((("a10", 1), ("b1", 1)), 3))
+GROUPS = folds.fold(TABLE, (0,), "sum", 1)
 
 # Of each function: its arguments' names, and calls that answer.
 CALLS = (
@@ -82,8 +84,23 @@ CALLS = (
     (secrets_flow.seers, ("p", "grants", "persons"), ((Q, GRANTS, ("ann", "bob", "eve")), (P, GRANTS, ("eve",)))),
     (secrets_flow.seen_table, ("table", "grants", "person"), ((TABLE, GRANTS, "ann"), (TABLE, GRANTS, "eve"))),
     (secrets_flow.leaks, ("table", "grants", "person"), ((TABLE, GRANTS, "ann"), (TABLE, GRANTS, "eve"))),
+    (folds.fold, ("table", "keys", "kind", "column"), (
+        (TABLE, (0,), "sum", 1), (TABLE, (), "count", None), (TABLE, (1, 1), "most", 0), ((), (5,), "least", 5))),
+    (folds.fold_whatif, ("groups", "kind", "column", "gone"), (
+        (GROUPS, "sum", 1, ("a1", "c1")), (GROUPS, "count", ("x",), ()), (GROUPS, "least", 0, ("a10",)))),
+    (folds.swing, ("groups", "kind", "column", "key"), (
+        (GROUPS, "sum", 1, ("ann",)), (GROUPS, "most", 0, ("bob",)), (GROUPS, "count", (), ("bob",)))),
+    (traces.trace_paper, ("program", "tables"), ((PROGRAM, TABLES), (WIDE, TABLES))),
+    (traces.why_paper, ("p", "tokens"), ((SETS, ("b1", "a1")), (SETS, ("b1", "z1")), (P, ()), ((), ("a1",)))),
+    (checking.trace_holds, ("program", "tables", "paper"), (
+        (PROGRAM, TABLES, traces.trace_paper(PROGRAM, TABLES)), (WIDE, TABLES, traces.trace_paper(WIDE, TABLES)))),
+    (checking.why_holds, ("p", "tokens", "paper"), (
+        (SETS, ("b1", "a1"), "why a1 b1\n"), (SETS, ("b1", "z1"), "not\nlacks a1\nlacks a10\n"), (P, (), "why\n"))),
 )
 
+RECORDS = (
+    ("source", "sold", 0, 2, (("ann", 3), ("", 17)), 1, "eve", 1),
+    ("step", "who", 0, "pick(take t, 0)", (("t", "sold", 0),), "joe", 2), ("forget", 2, "eve", 3))
 MANY_SETS = ((tuple((f"a{at}", 1) for at in range(1000, 1401)), 1),)
 
 # Calls that raise.
@@ -116,6 +133,16 @@ WRONG_CALLS = (
     (whynot.additions, (PROGRAM, TABLES, CANDIDATES + (("gone", "a1"),), ("zoe", 3))),
     (whynot.additions, (PROGRAM, TABLES, CANDIDATES, ("zoe", 3, 3))),
     (whynot.nearest, (PROGRAM, TABLES, CANDIDATES, ("zoe", 3), (("d1", 1), ("d2", 2), ("d2", 3)))),
+    (folds.fold, (TABLE, (0, (1,)), "sum", 1)),
+    (folds.fold, (TABLE, (0, 1), ("sum",), 1)),
+    (folds.fold, (TABLE, (0, 1), "sum", (1,))),
+    (folds.swing, (GROUPS, "sum", 1, ("zoe",))),
+    (traces.trace_paper, (PROGRAM, TABLES[:1])),
+    (checking.trace_holds, (PROGRAM, TABLES[:1], "node 0 take\n")),
+    (checking.trace_holds, (PROGRAM, TABLES, "node 0 take\n")),
+    (checking.why_holds, (SETS, ("b1", "a1"), ("why",))),
+    (ledgers.Ledger, (("a",),)),
+    (ledgers.rebuilt, ("a", RECORDS + (("forget", 2, "eve", 9),))),
 )
 
 
@@ -141,6 +168,9 @@ class AllFunctions(Case):
             whatif: ("changed_tables", "whatif", "moved"),
             whynot: ("additions", "nearest"),
             secrets_flow: ("seers", "seen_table", "leaks"),
+            folds: ("fold", "fold_whatif", "swing"),
+            traces: ("trace_paper", "why_paper"),
+            checking: ("trace_holds", "why_holds"),
         }
         for module, names in listed.items():
             called = {call.__name__ for call, _, _ in CALLS if call.__module__ == module.__name__}
@@ -200,6 +230,10 @@ class AllFunctions(Case):
         results += [whatif.moved(["take", "sold"], [["sold", 2, table]], changes)]
         results += [whynot.additions(["take", "sold"], as_lists(TABLES), candidates, ["zoe", 3])]
         results += [secrets_flow.leaks(table, grants, "ann"), secrets_flow.seen_table(table, grants, "bob")]
+        groups = as_lists(GROUPS)
+        results += [folds.fold(table, [0], "sum", 1), folds.fold_whatif(groups, "sum", 1, ["a1"])]
+        results += [checking.trace_holds(["take", "sold"], [["sold", 2, table]], traces.trace_paper(
+            ["take", "sold"], [["sold", 2, table]]))]
         kept = copy.deepcopy(results)
         persons = ["ann", "bob"]
         everyone = measures.measured_one("seen", persons)
@@ -211,7 +245,7 @@ class AllFunctions(Case):
             row.clear()
             p[0][0].clear()
         given[0][2][0][1].clear()
-        for sequence in (changes, candidates, grants):
+        for sequence in (changes, candidates, grants, groups):
             sequence[0].clear()
             sequence.clear()
         persons.clear()
