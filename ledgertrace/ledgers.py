@@ -56,7 +56,7 @@ class Ledger:
             raise BadValue(0)
         if not self.are_inputs(inputs):
             raise BadValue(2)
-        taken = [(alias, self.made[artifact][version]) for alias, artifact, version in inputs]
+        taken = [(alias, self.version_at(artifact, number)) for alias, artifact, number in inputs]
         row_width = width_of(program, [(alias, each.row_width) for alias, each in taken])
         self.check_maker(person, time, 3)
         table = run(program, [(alias, each.row_width, each.pairs) for alias, each in taken])

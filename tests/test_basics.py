@@ -6,8 +6,8 @@ import unittest
 
 from making import Case, as_lists, has_list
 from ledgertrace import (
-    blame, chances, checking, errors, folds, ledgers, measures, polys, programs, running, secrets_flow, tables, traces,
-    whatif, whynot, why)
+    blame, chain, chances, checking, compacting, desk, errors, folds, ledgers, measures, merging, polys, programs,
+    running, secrets_flow, tables, traces, whatif, whynot, why)
 from ledgertrace.errors import TraceError
 
 P = (((), 2), ((("a1", 1), ("b1", 2)), 1), ((("a10", 1),), 3))
@@ -25,6 +25,11 @@ CHANGES = (("gone", "a10"), ("new", "sold", ("zoe", 3), "d1"), ("new", "sold", (
 CANDIDATES = (("new", "sold", ("zoe", 3), "d1"), ("new", "sold", ("zoe", 3), "d2"), ("new", "paid", (7,), "d3"))
 GRANTS = (("a1", ("ann", "bob")), ("b1", ("bob",)), ("c1", ()))
 SETS = (((("a1", 1), ("b1", 2)), 1), ((("a10", 1), ("b1", 1)), 3))
+RECORDS = (
+    ("source", "sold", 0, 2, (("ann", 3), ("", 17)), 1, "eve", 1),
+    ("step", "who", 0, "pick(take t, 0)", (("t", "sold", 0),), "joe", 2), ("forget", 2, "eve", 3))
+OTHERS = (
+    ("source", "paid", 0, 1, ((3,), (3,)), 1, "kim", 2), ("source", "paid", 1, 1, (("ann",),), 3, "kim", 3))
 GROUPS = folds.fold(TABLE, (0,), "sum", 1)
 
 # Of each function: its arguments' names, and calls that answer.
@@ -96,11 +101,17 @@ CALLS = (
         (PROGRAM, TABLES, traces.trace_paper(PROGRAM, TABLES)), (WIDE, TABLES, traces.trace_paper(WIDE, TABLES)))),
     (checking.why_holds, ("p", "tokens", "paper"), (
         (SETS, ("b1", "a1"), "why a1 b1\n"), (SETS, ("b1", "z1"), "not\nlacks a1\nlacks a10\n"), (P, (), "why\n"))),
+    (chain.digest, ("text",), (("",), ("row ann 3\n",))),
+    (chain.record_text, ("record",), tuple((record,) for record in RECORDS)),
+    (chain.links, ("records",), ((RECORDS,), ((),))),
+    (chain.told_otherwise, ("records", "others"), (
+        (RECORDS, RECORDS[:2]), (RECORDS, OTHERS), (RECORDS, (RECORDS[0], RECORDS[2])))),
+    (merging.merged, ("records", "others"), ((RECORDS, OTHERS), (OTHERS, RECORDS), ((), RECORDS))),
+    (merging.renumbered, ("records", "others"), ((RECORDS, OTHERS), (OTHERS, RECORDS), ((), RECORDS))),
+    (compacting.compacted, ("records", "roots"), ((RECORDS, (("who", 0),)), (RECORDS, ()), (OTHERS, (("paid", 1),)))),
+    (compacting.kept_versions, ("records", "roots"), ((RECORDS, (("who", 0),)), (RECORDS, ()), (OTHERS, (("paid", 1),)))),
 )
 
-RECORDS = (
-    ("source", "sold", 0, 2, (("ann", 3), ("", 17)), 1, "eve", 1),
-    ("step", "who", 0, "pick(take t, 0)", (("t", "sold", 0),), "joe", 2), ("forget", 2, "eve", 3))
 MANY_SETS = ((tuple((f"a{at}", 1) for at in range(1000, 1401)), 1),)
 
 # Calls that raise.
@@ -143,6 +154,12 @@ WRONG_CALLS = (
     (checking.why_holds, (SETS, ("b1", "a1"), ("why",))),
     (ledgers.Ledger, (("a",),)),
     (ledgers.rebuilt, ("a", RECORDS + (("forget", 2, "eve", 9),))),
+    (merging.merged, (RECORDS, OTHERS + (("forget", 3, "eve", 9),))),
+    (merging.renumbered, (RECORDS, RECORDS)),
+    (compacting.compacted, (RECORDS[:2], (("who", 0),))),
+    (compacting.kept_versions, (RECORDS, (("who", 0), ("who", 1)))),
+    (desk.Desk, ("A",)),
+    (desk.replayed, ("a", "names\nname\n")),
 )
 
 
@@ -171,6 +188,9 @@ class AllFunctions(Case):
             folds: ("fold", "fold_whatif", "swing"),
             traces: ("trace_paper", "why_paper"),
             checking: ("trace_holds", "why_holds"),
+            chain: ("digest", "record_text", "links", "told_otherwise"),
+            merging: ("merged", "renumbered"),
+            compacting: ("compacted", "kept_versions"),
         }
         for module, names in listed.items():
             called = {call.__name__ for call, _, _ in CALLS if call.__module__ == module.__name__}

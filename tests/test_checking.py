@@ -5,6 +5,7 @@ import unittest
 
 from making import (
     ANY_VALUES, GREATEST, Case, any_poly, any_program, any_table, as_lists, deep, named, powers, simple, sum_of)
+from test_traces import PAID, SOLD, T, TABLES, U
 from ledgertrace.checking import trace_holds, why_holds
 from ledgertrace.errors import BadPaper, BadProgram, TooMany
 from ledgertrace.polys import ZERO, read_poly
@@ -12,17 +13,6 @@ from ledgertrace.running import run
 from ledgertrace.traces import trace_paper, why_paper
 from ledgertrace.why import there_with
 
-T = ("take", "t")
-U = ("take", "u")
-
-
-def at(row, text):
-    return (row, read_poly(text))
-
-
-SOLD = ("t", 2, (at((-3, "x"), "a4"), at(("ann", 3), "a1"), at(("ann", 4), "a2 + 2*a3^2"), at(("bob", 5), "a5")))
-PAID = ("u", 1, (at(("ann",), "b1"), at(("zoe",), "1 + b2")))
-TABLES = (SOLD, PAID)
 KEPT = ("keep", T, (("col", 0), "!", ("val", "bob")))
 WHO = ("pick", ("join", KEPT, U, ((0, 0),)), (0,))
 PAPER = trace_paper(WHO, TABLES)
@@ -208,6 +198,7 @@ class WhyHolds(Case):
                    "not \nlacks a1\nlacks c1\n", "Not\nlacks a1\nlacks c1\n", "not\nlacks  a1\nlacks c1\n",
                    "not\nlacks a1 b1\nlacks c1\n", "not\nlack a1\nlacks c1\n", "lacks a1\nlacks c1\n",
                    "not lacks a1\nlacks c1\n", "not\na1\nc1\n", "not\nlacks a1\nlacks c1 \n", "not\nlacks c1\nlacks a1\n",
+                   "not\nlacks a1\nlacks c1\nlacks c1", "not\nlacks a1\nlacks c1\n ",
                    "not\nlacks \nlacks c1\n", "not\nlacks\nlacks c1\n", "", "\n", "not", "why\n", "why a1 b1\n")
 
     def test_not_of_a_row_that_is_there(self):
